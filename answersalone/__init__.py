@@ -1,0 +1,1 @@
+"""Answersalone: many requests answered at once, each as if it were alone."""
