@@ -4,9 +4,7 @@ from answersalone.answers import Answer
 from answersalone.choosing import choose
 from answersalone.errors import InvalidRequest, UnknownRun
 from answersalone.requests import misfit
-from answersalone.words import is_number
-
-END = 0
+from answersalone.words import END, is_number
 
 
 def worked(net, text):
@@ -21,14 +19,18 @@ def worked(net, text):
 def next_token(net, request, tokens, run=0):
     """The token that is chosen behind the tokens of an answer so far."""
     _refuse_wrong(net, request, run)
-    whole = [*request.text, *tokens]
-    _, last = worked(net, whole)[-1]
+    _, last = worked(net, [*request.text, *tokens])[-1]
+    return token_behind(net, request, tokens, run, last)
+
+
+def token_behind(net, request, tokens, run, last):
+    """The token that is chosen behind the tokens of an answer so far, whose last place has this last row."""
     return choose(
         net.weights(last),
         allowed=_allowed(request, tokens),
         knob=request.knob,
         seed=request.seed + run,
-        place=len(whole),
+        place=len(request.text) + len(tokens),
     )
 
 

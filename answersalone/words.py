@@ -5,6 +5,9 @@ ROOM = 12
 BUDGET = 4
 ROUNDS = 400
 
+# The token that ends an answer.
+END = 0
+
 DIGITS = "0123456789"
 LETTERS = "abcdefghijklmnopqrstuvwxyz"
 PERCENT = 37

@@ -1,4 +1,4 @@
-"""What several tests need: values of all kinds, and stand-ins for nets."""
+"""What several tests need: values of all kinds, and a stand-in for nets."""
 
 from answersalone.answers import Answer
 from answersalone.automata import Automaton
@@ -11,21 +11,6 @@ def odd_values():
         None, True, False, [], (), [1], (0, 1), [[0]], ["a"], [None], (((1,),),),
         Answer(), Automaton([[0]], [0]), Request("a", [1], 1), [Request("a", [1], 1)],
     ]
-
-
-class ExampleNet:
-    """The net of the example in [31] of the document, by its own numbers."""
-
-    tokens = ".ab"
-
-    def place(self, kept, token):
-        first, second = ((-1, -1), (0, -1), (0, 0))[token]
-        second = max(-4, min(4, second + len(kept) % 2))
-        row = (first, max(-4, min(4, second + second)))
-        return ((((0, 0), (0, second)),),), row
-
-    def weights(self, row):
-        return [0, max(0, row[0] + 1), max(0, row[1] - row[0] + 1)]
 
 
 class RecordingNet:

@@ -32,8 +32,6 @@ METHODS = set(
     "casefold center expandtabs removeprefix removesuffix rindex isascii isdecimal isnumeric istitle isidentifier "
     "isprintable add discard format".split()
 )
-# The methods of a net, which the interface lists and a later file defines.
-NET_METHODS = {"place", "weights"}
 SPECIAL = set(
     "init eq repr str len enter exit call iter lt le gt ge ne add sub mul floordiv mod pow and or xor lshift rshift "
     "radd rsub rmul rfloordiv rmod rand ror rxor rlshift rrshift iadd isub imul ifloordiv imod ipow iand ior ixor "
@@ -177,7 +175,7 @@ class NamesTest(unittest.TestCase):
                     self.assertIn(node.id, BUILTINS, f"L8 {path}:{node.lineno}")
 
     def test_methods(self):
-        allowed = METHODS | own_methods() | NET_METHODS
+        allowed = METHODS | own_methods()
         for where, node in nodes(ast.Call):
             if isinstance(node.func, ast.Attribute):
                 self.assertIn(node.func.attr, allowed, f"L25 {where}")
@@ -247,6 +245,166 @@ class CodeTest(unittest.TestCase):
     def test_handlers_name_their_errors(self):
         for where, node in nodes(ast.ExceptHandler):
             self.assertIsNotNone(node.type, f"L6 {where}")
+
+    def test_handlers_catch_own_errors(self):
+        own = {node.name for _, node in nodes(ast.ClassDef)} | {"KeyError", "ZeroDivisionError"}
+        for where, node in nodes(ast.ExceptHandler):
+            caught = node.type.elts if isinstance(node.type, ast.Tuple) else [node.type]
+            self.assertLessEqual({item.id for item in caught}, own, f"L19 {where}")
+
+    def test_errors_are_made_on_the_spot(self):
+        for where, node in nodes(ast.Raise):
+            if node.exc is not None:
+                self.assertIsInstance(node.exc, ast.Call, f"L19 {where}")
+                self.assertIsInstance(node.exc.func, ast.Name, f"L19 {where}")
+
+    def test_default_values_are_plain(self):
+        for where, node in nodes(ast.FunctionDef):
+            for default in node.args.defaults + [item for item in node.args.kw_defaults if item is not None]:
+                self.assertIsInstance(default, (ast.Constant, ast.Name, ast.Tuple, ast.UnaryOp), f"L4 {where}")
+
+    def test_no_annotations(self):
+        for where, node in nodes(ast.FunctionDef):
+            self.assertIsNone(node.returns, f"L21 {where}")
+        for where, node in nodes(ast.arg):
+            self.assertIsNone(node.annotation, f"L21 {where}")
+        self.assertEqual([where for where, _ in nodes(ast.AnnAssign)], [], "L21")
+
+    def test_stars_in_calls(self):
+        for where, node in nodes(ast.Call):
+            for given in node.args:
+                if isinstance(given, ast.Starred):
+                    self.assertIsInstance(given.value, (ast.Name, ast.Attribute), f"L7 {where}")
+
+
+class ClassesTest(unittest.TestCase):
+    """Names of methods, properties and attributes."""
+
+    def members(self):
+        """For each class its plain methods, its properties, and the attributes that its methods assign to self."""
+        for _, node in nodes(ast.ClassDef):
+            methods, properties, attributes = set(), set(), set()
+            for row in node.body:
+                if isinstance(row, ast.FunctionDef):
+                    words = {getattr(item, "id", "") for item in row.decorator_list}
+                    (properties if "property" in words else methods).add(row.name)
+            for part in ast.walk(node):
+                if isinstance(part, ast.Attribute) and isinstance(part.ctx, ast.Store):
+                    attributes.add(part.attr)
+            yield node.name, methods, properties, attributes
+
+    def test_no_name_is_a_method_and_an_attribute(self):
+        all_methods, all_properties, all_attributes = set(), set(), set()
+        for _, methods, properties, attributes in self.members():
+            all_methods |= methods
+            all_properties |= properties
+            all_attributes |= attributes
+        self.assertEqual(all_methods & all_properties, set(), "L5")
+        self.assertEqual(all_attributes & all_properties, set(), "L5")
+        self.assertEqual(all_attributes & all_methods, set(), "L18")
+        self.assertEqual(all_attributes & (METHODS - {"index", "count", "find", "get", "copy", "title"}), set(), "L26")
+
+    def test_attributes_that_are_read_are_assigned(self):
+        known = set(METHODS)
+        for name, methods, properties, attributes in self.members():
+            known |= methods | properties | attributes
+        for where, node in nodes(ast.Attribute):
+            self.assertIn(node.attr, known, f"L18 {where}")
+
+    def test_no_method_is_defined_twice(self):
+        for where, node in nodes(ast.ClassDef):
+            names = [row.name for row in node.body if isinstance(row, ast.FunctionDef)]
+            self.assertEqual(len(names), len(set(names)), f"L18 {where}")
+
+    def test_names_of_generators(self):
+        made = [node.name for _, node in nodes(ast.FunctionDef) if any(
+            isinstance(part, (ast.Yield, ast.YieldFrom)) for part in ast.walk(node))]
+        every = [node.name for _, node in nodes(ast.FunctionDef)]
+        for name in made:
+            self.assertEqual(every.count(name), 1, f"L23 {name}")
+            self.assertNotIn(name, METHODS, "L23")
+
+    def test_attributes_are_assigned_through_a_name(self):
+        for where, node in nodes(ast.Attribute):
+            if isinstance(node.ctx, ast.Store):
+                self.assertIsInstance(node.value, ast.Name, f"L18 {where}")
+
+
+class LocalNamesTest(unittest.TestCase):
+    def test_no_local_name_is_a_class_or_an_import_of_its_file(self):
+        for path, tree in trees():
+            taken = set()
+            for row in tree.body:
+                if isinstance(row, ast.ClassDef):
+                    taken.add(row.name)
+                elif isinstance(row, ast.ImportFrom):
+                    taken |= {alias.name for alias in row.names}
+            for node in ast.walk(tree):
+                word = None
+                if isinstance(node, ast.arg):
+                    word = node.arg
+                elif isinstance(node, ast.Name) and isinstance(node.ctx, ast.Store):
+                    word = node.id
+                self.assertNotIn(word, taken, f"L15 {path}:{getattr(node, 'lineno', 0)}")
+
+    def test_imports_stand_at_the_top(self):
+        for path, tree in trees():
+            rows = [row for row in tree.body if not (isinstance(row, ast.Expr) and isinstance(row.value, ast.Constant))]
+            kinds = [isinstance(row, ast.ImportFrom) for row in rows]
+            self.assertEqual(kinds, sorted(kinds, reverse=True), f"L2 {path}")
+            inner = [node for node in ast.walk(tree) if isinstance(node, (ast.Import, ast.ImportFrom))]
+            self.assertEqual(len(inner), sum(kinds), f"L2 {path}")
+
+    def test_underscores_are_not_read(self):
+        for where, node in nodes(ast.Name):
+            if node.id == "_":
+                self.assertIsInstance(node.ctx, ast.Store, f"L12 {where}")
+
+
+class IteratedTest(unittest.TestCase):
+    """L23 and L24: views, zips and sets are used on the spot."""
+
+    TAKERS = {"list", "tuple", "dict", "sorted", "sum", "any", "all", "enumerate", "zip", "min", "max"}
+
+    def parents(self):
+        for path, tree in trees():
+            for node in ast.walk(tree):
+                for child in ast.iter_child_nodes(node):
+                    yield f"{path}:{getattr(child, 'lineno', 0)}", node, child
+
+    def test_views_and_zips(self):
+        for where, node, child in self.parents():
+            if not isinstance(child, ast.Call):
+                continue
+            named = getattr(child.func, "id", None) in ("zip", "enumerate", "reversed", "range")
+            viewed = getattr(child.func, "attr", None) in ("items", "keys", "values")
+            if named or viewed:
+                on_the_spot = isinstance(node, (ast.For, ast.comprehension)) and node.iter is child
+                taken = isinstance(node, ast.Call) and getattr(node.func, "id", None) in self.TAKERS
+                self.assertTrue(on_the_spot or taken, f"L23 {where}")
+
+    def test_sets(self):
+        for where, node, child in self.parents():
+            made = isinstance(child, (ast.Set, ast.SetComp)) or (
+                isinstance(child, ast.Call) and getattr(child.func, "id", None) in ("set", "frozenset"))
+            if made:
+                taken = isinstance(node, ast.Call) and getattr(node.func, "id", None) in ("sorted", "len")
+                self.assertTrue(taken or isinstance(node, ast.Compare), f"L24 {where}")
+
+    def test_what_a_loop_goes_over_is_not_changed_in_it(self):
+        changing = {"append", "clear", "extend", "insert", "pop", "remove", "reverse", "setdefault", "update", "sort"}
+        for where, node in nodes(ast.For):
+            gone_over = {ast.unparse(node.iter)}
+            if isinstance(node.iter, ast.Call):
+                gone_over |= {ast.unparse(given) for given in node.iter.args}
+                if isinstance(node.iter.func, ast.Attribute):
+                    gone_over.add(ast.unparse(node.iter.func.value))
+            for row in node.body:
+                for part in ast.walk(row):
+                    if isinstance(part, ast.Call) and getattr(part.func, "attr", None) in changing:
+                        self.assertNotIn(ast.unparse(part.func.value), gone_over, f"L23 {where}")
+                    if isinstance(part, ast.Subscript) and not isinstance(part.ctx, ast.Load):
+                        self.assertNotIn(ast.unparse(part.value), gone_over, f"L23 {where}")
 
 
 if __name__ == "__main__":

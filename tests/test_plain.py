@@ -10,7 +10,8 @@ from answersalone.errors import InvalidRequest, UnknownRun
 from answersalone.plain import next_token, plain_answer, plain_tokens, worked
 from answersalone.requests import Request
 
-from standin import ExampleNet, RecordingNet, mixed_weights, odd_values
+from samples import example_net
+from standin import RecordingNet, mixed_weights, odd_values
 
 AUTOMATA = [None, everything(3), Automaton.read("1-/01+"), Automaton.read("12/-2/0-+"), Automaton.read("1-/2-/-3/--+")]
 
@@ -41,7 +42,7 @@ def some_requests():
 
 class WorkedTest(unittest.TestCase):
     def test_the_document(self):
-        pairs = worked(ExampleNet(), [1, 2, 2])
+        pairs = worked(example_net(), [1, 2, 2])
         self.assertEqual(pairs, [
             (((((0, 0), (0, -1)),),), (0, -2)),
             (((((0, 0), (0, 1)),),), (0, 2)),
@@ -69,9 +70,9 @@ class WorkedTest(unittest.TestCase):
 class NextTokenTest(unittest.TestCase):
     def test_the_example(self):
         request = Request("x", [1, 2], 6)
-        self.assertEqual(next_token(ExampleNet(), request, []), 2)
-        self.assertEqual(next_token(ExampleNet(), request, [2]), 1)
-        self.assertEqual(next_token(ExampleNet(), request, (2, 1, 1)), 1)
+        self.assertEqual(next_token(example_net(), request, []), 2)
+        self.assertEqual(next_token(example_net(), request, [2]), 1)
+        self.assertEqual(next_token(example_net(), request, (2, 1, 1)), 1)
 
     def test_it_works_all_places_from_nothing(self):
         net = RecordingNet(".ab", mixed_weights)
@@ -106,14 +107,14 @@ class NextTokenTest(unittest.TestCase):
 
     def test_the_tokens_stay(self):
         tokens = [2]
-        next_token(ExampleNet(), Request("x", [1, 2], 6), tokens)
+        next_token(example_net(), Request("x", [1, 2], 6), tokens)
         self.assertEqual(tokens, [2])
 
 
 class PlainAnswerTest(unittest.TestCase):
     def test_the_example(self):
-        self.assertEqual(plain_answer(ExampleNet(), Request("x", [1, 2], 6)), Answer([2, 1, 1, 1, 1, 1], "full"))
-        self.assertEqual(plain_answer(ExampleNet(), Request("y", [1, 1, 2], 6)), Answer([1] * 6, "full"))
+        self.assertEqual(plain_answer(example_net(), Request("x", [1, 2], 6)), Answer([2, 1, 1, 1, 1, 1], "full"))
+        self.assertEqual(plain_answer(example_net(), Request("y", [1, 1, 2], 6)), Answer([1] * 6, "full"))
 
     def test_by_the_rule(self):
         net = RecordingNet(".ab", mixed_weights)
@@ -162,7 +163,7 @@ class PlainAnswerTest(unittest.TestCase):
         self.assertEqual(plain_answer(net, Request("x", [1], 3, automaton=automaton)), Answer([2], "end"))
 
     def test_by_name_and_defaults(self):
-        net = ExampleNet()
+        net = example_net()
         request = Request("x", [1, 2], 2)
         self.assertEqual(plain_answer(run=0, request=request, net=net), plain_answer(net, request))
         self.assertEqual(list(plain_tokens(request=request, net=net, run=0)), [2, 1])
@@ -189,7 +190,7 @@ def calls(net, request, *run):
 
 class ErrorsTest(unittest.TestCase):
     def refused(self, field, request, *run):
-        for call in calls(ExampleNet(), request, *run):
+        for call in calls(example_net(), request, *run):
             with self.assertRaises(InvalidRequest) as caught:
                 call()
             self.assertEqual(caught.exception.field, field)
@@ -209,7 +210,7 @@ class ErrorsTest(unittest.TestCase):
     def test_unknown_runs(self):
         request = Request("x", [1], 6, copies=2)
         for run in [2, 4, -1, 10 ** 9, "0", ""] + odd_values():
-            for call in calls(ExampleNet(), request, run):
+            for call in calls(example_net(), request, run):
                 with self.assertRaises(UnknownRun) as caught:
                     call()
                 self.assertIs(caught.exception.run, run)
@@ -218,9 +219,9 @@ class ErrorsTest(unittest.TestCase):
         for copies in range(1, 5):
             request = Request("x", [1], 2, copies=copies)
             for run in range(copies):
-                self.assertEqual(len(plain_answer(ExampleNet(), request, run)), 2)
+                self.assertEqual(len(plain_answer(example_net(), request, run)), 2)
             with self.assertRaises(UnknownRun):
-                plain_answer(ExampleNet(), request, copies)
+                plain_answer(example_net(), request, copies)
 
     def test_the_order(self):
         impossible = Automaton.read("0")
@@ -229,10 +230,10 @@ class ErrorsTest(unittest.TestCase):
         self.refused("most", Request("x", [2], 6, automaton=Automaton.read("00")), 7)
 
     def test_a_generator_raises_at_its_first_item(self):
-        listing = plain_tokens(ExampleNet(), Request("x", [3], 6), None)
+        listing = plain_tokens(example_net(), Request("x", [3], 6), None)
         with self.assertRaises(InvalidRequest):
             next(listing)
-        listing = plain_tokens(ExampleNet(), Request("x", [1], 6), None)
+        listing = plain_tokens(example_net(), Request("x", [1], 6), None)
         with self.assertRaises(UnknownRun):
             list(listing)
 
