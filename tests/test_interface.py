@@ -12,6 +12,13 @@ FUNCTIONS = {
         "number_word": "(number)",
         "read_number": "(word, least, most)",
     },
+    "tables": {
+        "times": "(table, row)",
+        "added": "(one, other)",
+        "cut": "(row, cap)",
+        "dot": "(one, other)",
+        "raised": "(row)",
+    },
     "choosing": {
         "draw_number": "(seed, place)",
         "choose": "(weights, *, allowed=None, knob='best', seed=0, place=0)",
@@ -24,8 +31,27 @@ FUNCTIONS = {
         "plain_answer": "(net, request, run=0)",
         "plain_tokens": "(net, request, run=0)",
     },
+    "drafters": {"drafts_of": "(result, tokens, most)"},
 }
 METHODS = {
+    ("shapes", "Shape"): {
+        "__init__": "(self, tokens, width, layers, heads)",
+        "things": "(self)",
+        "__eq__": "(self, other)",
+        "__repr__": "(self)",
+    },
+    ("nets", "Net"): {
+        "__init__": "(self, tokens, cap, token_rows, place_rows, layers, out_rows, base)",
+        "embedded": "(self, token, place)",
+        "place": "(self, kept, token)",
+        "weights": "(self, row)",
+        "number_of": "(self, character)",
+        "numbers": "(self, string)",
+        "characters": "(self, text)",
+        "written": "(self)",
+        "__eq__": "(self, other)",
+        "__repr__": "(self)",
+    },
     ("automata", "Automaton"): {
         "__init__": "(self, table, closing=())",
         "after": "(self, state, token)",
@@ -56,10 +82,99 @@ METHODS = {
         "__bool__": "(self)",
         "__repr__": "(self)",
     },
+    ("drafters", "Always"): {
+        "__init__": "(self, *tokens)",
+        "__call__": "(self, text)",
+        "__repr__": "(self)",
+    },
+    ("drafters", "Echo"): {
+        "__init__": "(self, most=5)",
+        "__call__": "(self, text)",
+    },
+    ("drafters", "Foresight"): {
+        "__init__": "(self, net, most=5)",
+        "__call__": "(self, text)",
+    },
+    ("cache", "Cache"): {
+        "__init__": "(self, *, page=2, room=12)",
+        "begin": "(self, holder, text)",
+        "share": "(self, holder, *others)",
+        "release": "(self, holder)",
+        "room_for": "(self, holder)",
+        "put": "(self, holder, token, row)",
+        "next_round": "(self)",
+        "places": "(self, holder)",
+        "beginning": "(self, holder)",
+        "rows": "(self, holder)",
+        "holders": "(self)",
+        "pages": "(self)",
+        "tails": "(self)",
+        "suspensions": "(self)",
+        "twin": "(self)",
+        "__contains__": "(self, holder)",
+        "__repr__": "(self)",
+    },
+    ("journal", "Journal"): {
+        "__init__": "(self, tokens)",
+        "enter": "(self, line)",
+        "lines": "(self)",
+        "written": "(self)",
+        "names": "(self)",
+        "request": "(self, name)",
+        "answer": "(self, name, run=0)",
+        "live": "(self)",
+        "__iter__": "(self)",
+        "__contains__": "(self, name)",
+        "__len__": "(self)",
+        "__bool__": "(self)",
+        "__repr__": "(self)",
+    },
+    ("disk", "Disk"): {
+        "__init__": "(self, content='')",
+        "write": "(self, line)",
+        "sync": "(self)",
+        "fall": "(self, keep=0, torn=0)",
+        "trim": "(self)",
+        "lines": "(self)",
+        "twin": "(self)",
+        "__len__": "(self)",
+        "__bool__": "(self)",
+        "__repr__": "(self)",
+    },
+    ("engine", "Engine"): {
+        "__init__": "(self, net, disk, *, page=2, room=12, budget=4, drafter=None, guess=0)",
+        "submit": "(self, request, *, stop=None)",
+        "cancel": "(self, name, *, stop=None)",
+        "advance": "(self, *, stop=None)",
+        "story": "(self, most=400)",
+        "finish": "(self, most=400)",
+        "delivered": "(self, name, run=0)",
+        "status": "(self, name, run=0)",
+        "held": "(self, name, run=0)",
+        "names": "(self)",
+        "live": "(self)",
+        "pages": "(self)",
+        "tails": "(self)",
+        "__contains__": "(self, name)",
+        "__len__": "(self)",
+        "__bool__": "(self)",
+        "__repr__": "(self)",
+    },
 }
-PROPERTIES = [("requests", "Request", "possible"), ("answers", "Answer", "complete")]
+PROPERTIES = {
+    ("requests", "Request"): ["possible"],
+    ("answers", "Answer"): ["complete"],
+    ("cache", "Cache"): ["rounds", "standing", "peak", "reused"],
+    ("disk", "Disk"): ["content", "synced"],
+    ("engine", "Engine"): ["rounds", "worked", "reused", "suspended", "peak", "standing", "dead"],
+}
 CLASS_METHODS = [("automata", "Automaton", "read", "(word)")]
-GENERATORS = [("automata", "Automaton", "texts"), ("plain", None, "plain_tokens")]
+STATIC_METHODS = [
+    ("nets", "Net", "read", "(text)"),
+    ("journal", "Journal", "read", "(tokens, text)"),
+    ("engine", "Engine", "alone", "(net, request, *, budget=4)"),
+]
+GENERATORS = [("automata", "Automaton", "texts"), ("plain", None, "plain_tokens"), ("engine", "Engine", "story")]
 
 
 def module(name):
@@ -83,13 +198,20 @@ class InterfaceTest(unittest.TestCase):
                 self.assertEqual(str(inspect.signature(vars(made)[method])), parameters, method)
 
     def test_properties(self):
-        for name, word, what in PROPERTIES:
-            self.assertIsInstance(vars(getattr(module(name), word))[what], property)
+        for (name, word), properties in PROPERTIES.items():
+            for what in properties:
+                self.assertIsInstance(vars(getattr(module(name), word))[what], property)
 
     def test_class_methods(self):
         for name, word, what, parameters in CLASS_METHODS:
             made = getattr(module(name), word)
             self.assertIsInstance(vars(made)[what], classmethod)
+            self.assertEqual(str(inspect.signature(getattr(made, what))), parameters)
+
+    def test_static_methods(self):
+        for name, word, what, parameters in STATIC_METHODS:
+            made = getattr(module(name), word)
+            self.assertIsInstance(vars(made)[what], staticmethod)
             self.assertEqual(str(inspect.signature(getattr(made, what))), parameters)
 
     def test_generators(self):
