@@ -28,5 +28,5 @@ def _token_above(weights, number):
     total = weights[0]
     while total <= number:
         token += 1
-        total += weights[token]
+        total = total + weights[token]
     return token
