@@ -3,6 +3,7 @@
 import random
 import unittest
 
+from answersalone.audit import audit
 from answersalone.disk import Disk
 from answersalone.drafters import Always, Echo, Foresight
 from answersalone.engine import Engine
@@ -100,6 +101,10 @@ class FactsTest(unittest.TestCase):
                     self.assertEqual(told, answer)
                 self.assertEqual(told.complete, engine.status(name, run) == "ended")
 
+    def check_journal(self, net, disk):
+        """[35]: the lines up to the last line feed are right at each moment."""
+        self.assertTrue(audit(net, "".join(line + "\n" for line in disk.lines())))
+
     def check_rows(self, engine, net):
         for path, rows, _ in engine.pages() + engine.tails():
             kept = [pair[0] for pair in worked(net, path)]
@@ -161,9 +166,11 @@ class FactsTest(unittest.TestCase):
                     self.check_delivered(engine, plain)
                 except Crashed:
                     crashes += 1
+                    self.check_journal(net, disk)
                     engine = self.recovered(draw, net, requests, disk, plain)
             while engine.live():
                 engine.advance()
+                self.check_journal(net, disk)
             self.check_delivered(engine, plain)
             self.assertEqual(Journal.read(net.tokens, disk.content).live(), [])
         self.assertGreater(crashes, 300)
@@ -173,6 +180,7 @@ class FactsTest(unittest.TestCase):
         if draw.random() < 0.8:
             disk.fall(draw.randint(0, 3), draw.choice([0, 0, 3, 99]))
         self.assertTrue(disk.content.startswith(synced))
+        self.check_journal(net, disk)
         try:
             engine = Engine(net, disk, **some_settings(draw, net, requests))
         except TooSmall:

@@ -32,6 +32,13 @@ FUNCTIONS = {
         "plain_tokens": "(net, request, run=0)",
     },
     "drafters": {"drafts_of": "(result, tokens, most)"},
+    "audit": {"audit": "(net, text)", "plain_lines": "(net, *requests)"},
+    "splits": {
+        "is_thing": "(shape, value)",
+        "wrong_thing": "(shape, machines)",
+        "summed": "(net, machines, token)",
+        "parting_net": "(shape, thing)",
+    },
 }
 METHODS = {
     ("shapes", "Shape"): {
@@ -80,6 +87,30 @@ METHODS = {
         "__eq__": "(self, other)",
         "__len__": "(self)",
         "__bool__": "(self)",
+        "__repr__": "(self)",
+    },
+    ("lots", "Lot"): {
+        "__init__": "(self, net, *chunks)",
+        "step": "(self, at)",
+        "layers_done": "(self, at)",
+        "rows": "(self, at)",
+        "kept": "(self, at)",
+        "finish": "(self)",
+        "twin": "(self)",
+        "__len__": "(self)",
+        "__repr__": "(self)",
+    },
+    ("audit", "Verdict"): {
+        "__init__": "(self, line=None, why='')",
+        "__bool__": "(self)",
+        "__eq__": "(self, other)",
+        "__repr__": "(self)",
+    },
+    ("splits", "Split"): {
+        "__init__": "(self, shape, *machines)",
+        "machine_of": "(self, thing)",
+        "__eq__": "(self, other)",
+        "__len__": "(self)",
         "__repr__": "(self)",
     },
     ("drafters", "Always"): {
@@ -164,6 +195,7 @@ METHODS = {
 PROPERTIES = {
     ("requests", "Request"): ["possible"],
     ("answers", "Answer"): ["complete"],
+    ("lots", "Lot"): ["done"],
     ("cache", "Cache"): ["rounds", "standing", "peak", "reused"],
     ("disk", "Disk"): ["content", "synced"],
     ("engine", "Engine"): ["rounds", "worked", "reused", "suspended", "peak", "standing", "dead"],

@@ -11,61 +11,11 @@ from answersalone.plain import next_token, plain_answer, plain_tokens, worked
 from answersalone.requests import Request
 from answersalone.shapes import Shape
 
+from netmodel import listed, places_by_the_words, tupled, weights_by_the_words
 from samples import EXAMPLE, example_net, example_parts, some_net, some_parts
 from standin import odd_values
 
 PARTS = ["tokens", "cap", "token_rows", "place_rows", "layers", "out_rows", "base"]
-
-
-def tupled(value):
-    return tuple(tupled(item) for item in value) if isinstance(value, (list, tuple)) else value
-
-
-def listed(value):
-    return [listed(item) for item in value] if isinstance(value, (list, tuple)) else value
-
-
-def product(table, row):
-    return [sum(line[at] * row[at] for at in range(len(row))) for line in table]
-
-
-def places_by_the_words(parts, text):
-    """The pairs (kept row, last row) of all places, as [6] tells them."""
-    width = len(parts["token_rows"][0])
-    cap = parts["cap"]
-
-    def cutting(row):
-        return [cap if number > cap else -cap if number < -cap else number for number in row]
-
-    kept = []
-    pairs = []
-    for place, token in enumerate(text):
-        place_row = parts["place_rows"][place % len(parts["place_rows"])]
-        x = cutting([parts["token_rows"][token][at] + place_row[at] for at in range(width)])
-        kept.append([])
-        for layer, (heads, up, down) in enumerate(parts["layers"]):
-            kept[place].append([(product(key, x), product(value, x)) for _, key, value in heads])
-            summed = list(x)
-            for head, (query, _, _) in enumerate(heads):
-                asked = product(query, x)
-                best = None
-                for earlier in range(place + 1):
-                    first, second = kept[earlier][layer][head]
-                    score = sum(asked[at] * first[at] for at in range(width))
-                    if best is None or score >= best[0]:
-                        best = (score, second)
-                summed = [summed[at] + best[1][at] for at in range(width)]
-            x = cutting(summed)
-            z = [number if number > 0 else 0 for number in product(up, x)]
-            more = product(down, z)
-            x = cutting([x[at] + more[at] for at in range(width)])
-        pairs.append((tupled(kept[place]), tuple(x)))
-    return pairs
-
-
-def weights_by_the_words(parts, row):
-    rows = zip(parts["out_rows"], parts["base"])
-    return [max(0, sum(out[at] * row[at] for at in range(len(row))) + number) for out, number in rows]
 
 
 class ExampleTest(unittest.TestCase):
