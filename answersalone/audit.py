@@ -1,9 +1,8 @@
 """Audits: whether all lines of a journal can stand, and tell what the plain answers are."""
 
-from answersalone.errors import InvalidLine
-from answersalone.journal import Journal
-from answersalone.plain import next_token, plain_answer
-from answersalone.records import TOKEN, read_record, token_line
+from answersalone.auditor import Auditor
+from answersalone.plain import plain_answer
+from answersalone.records import token_line
 from answersalone.words import END, number_word
 
 
@@ -21,17 +20,19 @@ class Verdict:
         return self.line is None
 
     def __repr__(self):
-        return "Verdict(right)" if self.line is None else f"Verdict({number_word(self.line)}, {self.why})"
+        if self.line is None:
+            return "Verdict(right)"
+        return f"Verdict({number_word(self.line)}, {self.why})"
 
 
 def audit(net, text):
     """The verdict on the text of a journal."""
     if not isinstance(text, str):
         return Verdict(0, "form")
-    journal = Journal(net.tokens)
+    auditor = Auditor(net)
     lines = text.split("\n")
     for at, line in enumerate(lines[:-1]):
-        wrong = _wrong(net, journal, line)
+        wrong = auditor.wrong(line)
         if wrong is not None:
             return Verdict(at, wrong)
     # What stands behind the last line feed lacks its own.
@@ -45,21 +46,6 @@ def plain_lines(net, *requests):
         for run in range(request.copies):
             told.extend(_told_lines(net, request, run))
     return [request.entry(net.tokens) for request in requests] + told
-
-
-def _wrong(net, journal, line):
-    """Puts a line into a journal; returns the word that tells why it does not stand, None if it does."""
-    try:
-        journal.enter(line)
-    except InvalidLine as error:
-        return error.why
-    record = read_record(line, net.tokens)
-    if record[0] != TOKEN:
-        return None
-    _, name, run, token = record
-    tokens = journal.answer(name, run).tokens
-    ahead = tokens if token == END else tokens[:-1]
-    return None if token == next_token(net, journal.request(name), ahead, run) else "token"
 
 
 def _told_lines(net, request, run):

@@ -13,9 +13,8 @@ PACKAGE = os.path.join(ROOT, "answersalone")
 LIBRARY = {
     "heapq": {"heappush", "heappop", "heapify", "heapreplace", "heappushpop"},
     "math": {"gcd", "lcm", "isqrt", "comb", "perm", "factorial"},
-    "itertools": {
-        "product", "combinations", "permutations", "chain", "accumulate", "pairwise", "islice", "zip_longest",
-    },
+    # A class has __iter__ and __len__, so product, combinations and permutations are not used: L2 Products.
+    "itertools": {"chain", "accumulate", "pairwise", "islice", "zip_longest"},
     "collections": {"defaultdict"},
 }
 BUILTINS = set(
@@ -328,6 +327,91 @@ class ClassesTest(unittest.TestCase):
         for where, node in nodes(ast.Attribute):
             if isinstance(node.ctx, ast.Store):
                 self.assertIsInstance(node.value, ast.Name, f"L18 {where}")
+
+
+class SpecialMethodsTest(unittest.TestCase):
+    """L5 Operators and L28: what double-underscore methods and properties return and leave as it is."""
+
+    ARITHMETIC = ("__add__", "__sub__", "__mul__")
+
+    def methods(self, *names):
+        for where, node in nodes(ast.FunctionDef):
+            words = [getattr(item, "id", "") for item in node.decorator_list]
+            if node.name in names or ("property" in names and "property" in words):
+                yield where, node
+
+    def returned(self, node):
+        return [row.value for row in ast.walk(node) if isinstance(row, ast.Return)]
+
+    def test_texts(self):
+        for where, node in self.methods("__str__", "__repr__"):
+            self.assertIsInstance(node.body[-1], ast.Return, f"L28 {where}")
+            for value in self.returned(node):
+                called = isinstance(value, ast.Call) and (
+                    getattr(value.func, "id", None) in ("str", "repr")
+                    or getattr(value.func, "attr", None) == "join" and isinstance(value.func.value, ast.Constant))
+                text = isinstance(value, ast.Constant) and isinstance(value.value, str)
+                self.assertTrue(called or text or isinstance(value, ast.JoinedStr), f"L28 {where}")
+
+    def test_lengths(self):
+        for where, node in self.methods("__len__"):
+            for value in self.returned(node):
+                self.assertEqual(getattr(value.func, "id", None), "len", f"L28 {where}")
+
+    def test_equality(self):
+        for where, node in self.methods("__eq__"):
+            (row,) = node.body
+            first, *others = row.value.values
+            self.assertEqual(first.func.id, "isinstance", where)
+            self.assertEqual(first.args[1].id, self.class_of(node), where)
+            for other in others:
+                left, right = other.left, other.comparators[0]
+                self.assertEqual((left.value.id, right.value.id, left.attr), ("self", "other", right.attr), where)
+
+    def class_of(self, method):
+        return [node.name for _, node in nodes(ast.ClassDef) if method in node.body][0]
+
+    def test_arithmetic_takes_its_own_class_alone(self):
+        for where, node in self.methods(*self.ARITHMETIC):
+            first, last = node.body
+            self.assertEqual(ast.unparse(first),
+                             f"if not isinstance(other, {self.class_of(node)}):\n    return NotImplemented", where)
+            self.assertIsInstance(last, ast.Return, where)
+
+    def test_they_change_nothing(self):
+        names = ("__str__", "__repr__", "__len__", "__eq__", "__bool__", "__contains__", "__neg__", "property")
+        for where, node in self.methods(*names, *self.ARITHMETIC):
+            for part in ast.walk(node):
+                if isinstance(part, (ast.Attribute, ast.Subscript)):
+                    self.assertIsInstance(part.ctx, ast.Load, f"L5 {where}")
+                if isinstance(part, ast.Call) and isinstance(part.func, ast.Attribute):
+                    self.assertNotIn(part.func.attr, ("append", "pop", "update", "clear", "extend"), f"L5 {where}")
+
+    def test_iteration_and_truth(self):
+        for where, node in self.methods("__iter__"):
+            self.assertRegex(ast.unparse(node.body[-1]), r"\Areturn iter\(self\._?[a-z]+\)\Z", f"L5 {where}")
+        for where, node in self.methods("__bool__"):
+            for value in self.returned(node):
+                plain = isinstance(value, ast.Constant) and isinstance(value.value, bool)
+                called = isinstance(value, ast.Call) and value.func.id == "bool"
+                asked = isinstance(value, ast.Compare) and isinstance(value.ops[0], (ast.Is, ast.IsNot, ast.In))
+                self.assertTrue(plain or called or asked, f"L5 {where}")
+
+    def test_finally(self):
+        for where, node in nodes(ast.Try):
+            for row in node.finalbody:
+                self.assertIsInstance(row, ast.Assign, f"L6 {where}")
+                self.assertIsInstance(row.value, (ast.Constant, ast.Name), f"L6 {where}")
+                self.assertIsInstance(row.targets[0], (ast.Attribute, ast.Name), f"L6 {where}")
+
+    def test_words_in_strings(self):
+        docs = set()
+        for _, node in nodes(ast.Module, ast.ClassDef, ast.FunctionDef):
+            docs.add(id(getattr(node.body[0], "value", None)) if node.body else None)
+        for where, node in nodes(ast.Constant):
+            if isinstance(node.value, str) and id(node) not in docs:
+                self.assertEqual(set(re.findall(r"\w+", node.value)) & NEVER_WRITTEN, set(), f"L17 {where}")
+                self.assertNotIn("__", node.value, f"L27 {where}")
 
 
 class LocalNamesTest(unittest.TestCase):

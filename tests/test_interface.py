@@ -39,6 +39,17 @@ FUNCTIONS = {
         "summed": "(net, machines, token)",
         "parting_net": "(shape, thing)",
     },
+    "chances": {
+        "shares_of": "(weights)",
+        "kept_share": "(p, q)",
+        "rest_shares": "(p, q)",
+        "guessed_shares": "(p, q)",
+        "row_chance": "(net, text, row)",
+        "guessed_chance": "(net, text, row, weigher)",
+        "kept_chances": "(net, text, places, weigher)",
+        "all_rows": "(tokens, length)",
+    },
+    "console": {"play": "(net, text)"},
 }
 METHODS = {
     ("shapes", "Shape"): {
@@ -111,6 +122,42 @@ METHODS = {
         "machine_of": "(self, thing)",
         "__eq__": "(self, other)",
         "__len__": "(self)",
+        "__repr__": "(self)",
+    },
+    ("crews", "Crew"): {
+        "__init__": "(self, net, layout, *, order=None)",
+        "place": "(self, kept, token)",
+        "weights": "(self, row)",
+        "embedded": "(self, token, place)",
+        "number_of": "(self, character)",
+        "numbers": "(self, string)",
+        "characters": "(self, text)",
+        "portion": "(self, row, machine)",
+        "joined": "(self, portions)",
+        "__repr__": "(self)",
+    },
+    ("shares", "Share"): {
+        "__init__": "(self, top, bottom=1)",
+        "__add__": "(self, other)",
+        "__sub__": "(self, other)",
+        "__mul__": "(self, other)",
+        "__neg__": "(self)",
+        "below": "(self, other)",
+        "over": "(self, other)",
+        "__eq__": "(self, other)",
+        "__bool__": "(self)",
+        "__str__": "(self)",
+        "__repr__": "(self)",
+    },
+    ("console", "Console"): {
+        "__init__": "(self, net, disk=None)",
+        "say": "(self, line)",
+        "__call__": "(self, line)",
+        "log": "(self)",
+        "written": "(self)",
+        "engine": "(self)",
+        "__len__": "(self)",
+        "__bool__": "(self)",
         "__repr__": "(self)",
     },
     ("drafters", "Always"): {
@@ -198,6 +245,7 @@ PROPERTIES = {
     ("lots", "Lot"): ["done"],
     ("cache", "Cache"): ["rounds", "standing", "peak", "reused"],
     ("disk", "Disk"): ["content", "synced"],
+    ("console", "Console"): ["busy"],
     ("engine", "Engine"): ["rounds", "worked", "reused", "suspended", "peak", "standing", "dead"],
 }
 CLASS_METHODS = [("automata", "Automaton", "read", "(word)")]
@@ -206,7 +254,12 @@ STATIC_METHODS = [
     ("journal", "Journal", "read", "(tokens, text)"),
     ("engine", "Engine", "alone", "(net, request, *, budget=4)"),
 ]
-GENERATORS = [("automata", "Automaton", "texts"), ("plain", None, "plain_tokens"), ("engine", "Engine", "story")]
+GENERATORS = [
+    ("automata", "Automaton", "texts"),
+    ("plain", None, "plain_tokens"),
+    ("engine", "Engine", "story"),
+    ("chances", None, "all_rows"),
+]
 
 
 def module(name):
