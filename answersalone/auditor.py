@@ -4,24 +4,8 @@ from answersalone.errors import InvalidLine
 from answersalone.journal import Journal
 from answersalone.plain import token_behind
 from answersalone.records import TOKEN, read_record
+from answersalone.walks import Walk
 from answersalone.words import END
-
-
-class Walk:
-    """A text that is worked place by place."""
-
-    def __init__(self, net, text):
-        self._net = net
-        self._kept = []
-        # The last row of the last place.
-        self.last = None
-        for token in text:
-            self.go_on(token)
-
-    def go_on(self, token):
-        """Works the place of a token behind the others."""
-        row, self.last = self._net.place(self._kept, token)
-        self._kept.append(row)
 
 
 class Auditor:

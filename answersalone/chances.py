@@ -1,8 +1,8 @@
 """Chances of rows of tokens, drawn by a net alone or guessed with a weigher."""
 
 from answersalone.errors import InvalidWeights
-from answersalone.plain import worked
 from answersalone.shares import Share
+from answersalone.walks import Walk
 from answersalone.words import END, is_number
 
 GREATEST_WEIGHT = 99
@@ -37,30 +37,26 @@ def guessed_shares(p, q):
 
 def row_chance(net, text, row):
     """The chance of a row of tokens behind a text, by the net alone."""
-    chance = Share(1)
-    ahead = list(text)
-    for token in row:
-        chance = chance * _shares_behind(net, ahead)[token]
-        ahead.append(token)
-    return chance
+    return _chance_from(_shares_along(net, text, row), row, 0)
 
 
 def guessed_chance(net, text, row, weigher):
     """The chance of a row behind a text by guessing, with one place less than the row has."""
+    shares = _shares_along(net, text, row)
     chance = Share(0)
     # The chance that the tokens of the row so far are guessed and kept.
     reached = Share(1)
     for at in range(len(row) - 1):
-        ahead = list(text) + list(row[:at])
-        p = _shares_behind(net, ahead)
-        q = _asked_shares(net, ahead, weigher)
+        p = shares[at]
+        q = _asked_shares(net, list(text) + list(row[:at]), weigher)
         token = row[at]
         instead = _instead_chances_of(p, q)[token]
-        chance = chance + reached * instead * row_chance(net, ahead + [token], row[at + 1:])
+        chance = chance + reached * instead * _chance_from(shares, row, at + 1)
         reached = reached * _kept_chance(p[token], q[token])
+        # No weigher is asked for a text that guessing cannot come to.
         if not reached:
             return chance
-    return chance + reached * row_chance(net, list(text) + list(row[:-1]), row[-1:])
+    return chance + reached * _chance_from(shares, row, len(row) - 1)
 
 
 def kept_chances(net, text, places, weigher):
@@ -71,7 +67,6 @@ def kept_chances(net, text, places, weigher):
     q = _asked_shares(net, text, weigher)
     chances = [Share(1) - kept_share(p, q)] + [Share(0)] * places
     for token, kept in enumerate(_kept_chances_of(p, q)):
-        # No weigher is asked for a text that guessing cannot come to.
         if kept:
             behind = kept_chances(net, list(text) + [token], places - 1, weigher)
             for many, chance in enumerate(behind, 1):
@@ -120,10 +115,28 @@ def _instead_chances_of(p, q):
     return [refused * share for share in rest]
 
 
+def _shares_along(net, text, row):
+    """The list of the net's shares of the tokens at each place of a row behind a text."""
+    walk = Walk(net, text)
+    found = []
+    for token in row:
+        found.append(shares_of(net.weights(walk.last)))
+        walk.go_on(token)
+    return found
+
+
+def _chance_from(shares, row, start):
+    """The chance that the tokens of a row from a place on are drawn by these shares."""
+    chance = Share(1)
+    for place in range(start, len(row)):
+        chance = chance * shares[place][row[place]]
+    return chance
+
+
 def _shares_behind(net, text):
     """The net's shares of the tokens behind a text."""
-    _, last = worked(net, text)[-1]
-    return shares_of(net.weights(last))
+    walk = Walk(net, text)
+    return shares_of(net.weights(walk.last))
 
 
 def _asked_shares(net, text, weigher):

@@ -1,7 +1,7 @@
 """Drafters, which guess how a text goes on, and the drafts in a result."""
 
 from answersalone.choosing import choose
-from answersalone.plain import worked
+from answersalone.walks import Walk
 from answersalone.words import END, is_number
 
 
@@ -40,17 +40,14 @@ class Foresight:
         self.most = most
 
     def __call__(self, text):
-        pairs = worked(self.net, text)
-        kept = [pair[0] for pair in pairs]
-        last = pairs[-1][1]
+        walk = Walk(self.net, text)
         guessed = []
         while len(guessed) < self.most:
-            token = choose(self.net.weights(last))
+            token = choose(self.net.weights(walk.last))
             if token == END:
                 return guessed
             guessed.append(token)
-            row, last = self.net.place(kept, token)
-            kept.append(row)
+            walk.go_on(token)
         return guessed
 
 

@@ -41,9 +41,7 @@ class Lot:
 
     def finish(self):
         """Steps all chunks to their ends."""
-        for at in range(len(self._chunks)):
-            while not self._is_through(self._chunks[at]):
-                self.step(at)
+        self._chunks = [self._through_all(chunk) for chunk in self._chunks]
 
     def twin(self):
         """An independent lot in the same state."""
@@ -58,6 +56,11 @@ class Lot:
 
     def _is_through(self, chunk):
         return len(chunk.passed) == len(self._net.layers)
+
+    def _through_all(self, chunk):
+        while not self._is_through(chunk):
+            chunk = stepped(self._net, chunk)
+        return chunk
 
     def __len__(self):
         return len(self._chunks)
