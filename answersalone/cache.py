@@ -63,8 +63,9 @@ class Cache:
         self._chains[holder] = chain
         for number in chain:
             self._pages[number].users[holder] = True
-        self._reused += len(chain) * self.page
-        return len(chain) * self.page
+        places = len(chain) * self.page
+        self._reused = self._reused + places
+        return places
 
     def share(self, holder, *others):
         """The others come on with all that the holder holds."""

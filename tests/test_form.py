@@ -475,12 +475,11 @@ class IteratedTest(unittest.TestCase):
                 taken = isinstance(node, ast.Call) and getattr(node.func, "id", None) in ("sorted", "len")
                 self.assertTrue(taken or isinstance(node, ast.Compare), f"L24 {where}")
 
-    def test_local_names_grow_by_plain_numbers(self):
+    def test_names_and_attributes_grow_by_plain_numbers(self):
         # += walks what it is given if that is a list, and a journal is iterated over as lists are: L5, L23.
         for where, node in nodes(ast.AugAssign):
-            if isinstance(node.target, ast.Name):
-                self.assertIsInstance(node.value, ast.Constant, f"L23 {where}")
-                self.assertIsInstance(node.value.value, int, f"L23 {where}")
+            self.assertIsInstance(node.value, ast.Constant, f"L23 {where}")
+            self.assertIsInstance(node.value.value, int, f"L23 {where}")
 
     def test_what_a_loop_goes_over_is_not_changed_in_it(self):
         changing = {"append", "clear", "extend", "insert", "pop", "remove", "reverse", "setdefault", "update", "sort"}
